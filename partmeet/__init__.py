@@ -1,0 +1,1 @@
+"""Partmeet: sites that write alone, and forget what all have seen."""

@@ -1,0 +1,1 @@
+"""Keys, values, vectors and events."""

@@ -1,0 +1,1 @@
+"""Whether events can have been written as the document tells."""

@@ -1,0 +1,1 @@
+"""What events mean, looked at all at once."""

@@ -1,0 +1,1 @@
+"""Data as rows of octets, and back."""

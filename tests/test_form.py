@@ -1,0 +1,206 @@
+"""The form of the code: that the interface stands where it should, and some rules of the language subset."""
+
+import ast
+import builtins
+import os
+import re
+import tokenize
+import unittest
+import warnings
+
+ROOT = os.path.dirname(os.path.dirname(os.path.abspath(__file__)))
+PACKAGE = os.path.join(ROOT, "partmeet")
+
+INTERFACE = {
+    "partmeet.data.keys": ["KEY_SIGNS", "VALUE_SIGNS", "MOST_VALUE", "is_key(data)", "is_value(data)", "is_sign(data)",
+                           "value_order(values)"],
+    "partmeet.data.vectors": ["SITES", "NO_VECTOR", "is_dot(data)", "is_vector(data)", "knows(vector, dot)",
+                              "covers(vector, other)", "joined(vector, other)", "least(vectors)",
+                              "raised(vector, dot)"],
+    "partmeet.data.events": ["MOST_NUMBER", "is_op(data)", "is_client_op(data)", "is_event(data)", "dot_of(event)",
+                             "past_has(event, dot)"],
+    "partmeet.packing.lines": ["MOST_DEPTH", "MOST_INTEGER", "pack(data)", "unpack(octets)"],
+    "partmeet.meaning.values": ["heads_of(events, key)", "register_of(events, key)", "counter_of(events, key)",
+                                "members_of(events, key)"],
+    "partmeet.meaning.texts": ["line_of(events, key)", "places_of(events, key)", "text_of(events, key)"],
+    "partmeet.judge.events": ["fault_of_events(events)"],
+    "partmeet.errors": ["MeetError", "Malformed", "OutOfRange", "NotOp", "NoPlace", "Retired", "NoMessage", "LinkCut",
+                        "NoSite", "Absent", "SiteDown", "SiteUp", "SiteGone", "StillThere", "NotReady", "NoClient",
+                        "Behind"],
+}
+
+BUILTINS = """len range enumerate zip min max sum abs sorted reversed int str bool bytes list tuple dict set frozenset
+isinstance ord repr any all divmod pow getattr hasattr setattr iter next map super type Exception ValueError TypeError
+KeyError IndexError LookupError ZeroDivisionError ArithmeticError OverflowError RuntimeError NotImplementedError
+AttributeError StopIteration NotImplemented""".split()
+
+METHODS = """append clear copy count endswith extend find get index insert isalnum isalpha isdigit islower isspace
+isupper items join keys ljust lower lstrip partition pop remove replace reverse rfind rjust rpartition rsplit rstrip
+setdefault split splitlines startswith strip update upper values zfill bit_length title capitalize swapcase casefold
+center expandtabs removeprefix removesuffix rindex isascii isdecimal isnumeric istitle isidentifier isprintable add
+discard sort format""".split()
+
+BARRED_NAMES = """register mro elements open input law version_info with_traceback add_note attrgetter breakpoint
+builtins compile copyright credits delattr dir eval exec exit gc globals help id importlib license locals methodcaller
+os quit vars sys""".split()
+
+BARRED_WORDS = """typing typing_extensions enum Enum IntEnum StrEnum Flag IntFlag Generic Protocol ABC ABCMeta
+namedtuple NamedTuple TypedDict TYPE_CHECKING abstractmethod _wall _WallAttr""".split()
+
+BARRED_NODES = (ast.AsyncFunctionDef, ast.AsyncFor, ast.AsyncWith, ast.Await, ast.Import, ast.Div, ast.Global)
+
+
+def files():
+    found = []
+    for folder, folders, names in os.walk(PACKAGE):
+        if "__pycache__" in folders:
+            folders.remove("__pycache__")
+        found += [os.path.join(folder, name) for name in names]
+    return sorted(found)
+
+
+def module_name(path):
+    name = os.path.relpath(path, ROOT)[:-len(".py")].replace(os.sep, ".")
+    return name.removesuffix(".__init__")
+
+
+def read(path):
+    with open(path, encoding="utf-8") as stream:
+        return stream.read()
+
+
+def bound_names(tree):
+    """All names that a tree binds: by assignments, loops, parameters, functions, classes, imports."""
+    found = []
+    for node in ast.walk(tree):
+        if isinstance(node, ast.Name) and not isinstance(node.ctx, ast.Load):
+            found.append(node.id)
+        if isinstance(node, ast.arg):
+            found.append(node.arg)
+        if isinstance(node, (ast.FunctionDef, ast.ClassDef)):
+            found.append(node.name)
+        if isinstance(node, ast.alias):
+            found.append(node.asname or node.name)
+    return found
+
+
+def top_names(tree):
+    """The names that a module defines itself, functions with their parameters."""
+    found = {}
+    for node in tree.body:
+        if isinstance(node, ast.FunctionDef):
+            found[node.name] = f"{node.name}({ast.unparse(node.args)})"
+        if isinstance(node, ast.ClassDef):
+            found[node.name] = node.name
+        if isinstance(node, ast.Assign):
+            found[node.targets[0].id] = node.targets[0].id
+    return found
+
+
+def docstrings(tree):
+    found = []
+    for node in ast.walk(tree):
+        if isinstance(node, (ast.Module, ast.ClassDef, ast.FunctionDef)) and ast.get_docstring(node) is not None:
+            found.append(node.body[0].value)
+    return found
+
+
+def trees():
+    return [(path, ast.parse(read(path))) for path in files()]
+
+
+class Form(unittest.TestCase):
+    def test_the_interface(self):
+        for name, wanted in INTERFACE.items():
+            path = os.path.join(ROOT, *name.split(".")) + ".py"
+            found = list(top_names(ast.parse(read(path))).values())
+            self.assertEqual([each for each in wanted if each not in found], [], name)
+
+    def test_files_and_lines(self):
+        for path in files():
+            self.assertRegex(os.path.basename(path), r"^[a-z0-9_]+\.py$")
+            self.assertTrue(os.path.exists(os.path.join(os.path.dirname(path), "__init__.py")))
+            text = read(path)
+            self.assertTrue(all(sign == "\n" or " " <= sign <= "~" for sign in text), path)
+            self.assertTrue(text.endswith("\n"), path)
+            self.assertLessEqual(len(text.splitlines()), 399, path)
+            for line in text.splitlines():
+                self.assertLessEqual(len(line), 120, path)
+                self.assertEqual(line, line.rstrip(), path)
+
+    def test_no_warnings(self):
+        for path in files():
+            with warnings.catch_warnings():
+                warnings.simplefilter("error")
+                compile(read(path), path, "exec")
+
+    def test_functions_are_small_and_told(self):
+        for path, tree in trees():
+            self.assertIsNotNone(ast.get_docstring(tree))
+            for node in ast.walk(tree):
+                if isinstance(node, (ast.FunctionDef, ast.ClassDef)):
+                    self.assertIsNotNone(ast.get_docstring(node), node.name)
+                if isinstance(node, ast.FunctionDef):
+                    self.assertLessEqual(node.end_lineno - node.lineno + 1, 40, node.name)
+
+    def test_statements(self):
+        for path, tree in trees():
+            for node in ast.walk(tree):
+                self.assertNotIsInstance(node, BARRED_NODES)
+                self.assertFalse(isinstance(node, ast.Constant) and isinstance(node.value, (float, complex)))
+            for node in tree.body:
+                self.assertIsInstance(node, (ast.Expr, ast.ImportFrom, ast.FunctionDef, ast.ClassDef, ast.Assign))
+
+    def test_imports(self):
+        edges = {}
+        for path, tree in trees():
+            bound = bound_names(tree)
+            used = [node.id for node in ast.walk(tree) if isinstance(node, ast.Name)]
+            for node in tree.body:
+                if isinstance(node, ast.ImportFrom):
+                    self.assertEqual(node.level, 0)
+                    self.assertTrue(node.module.startswith("partmeet."))
+                    edges.setdefault(module_name(path), []).append(node.module)
+                    defined = top_names(ast.parse(read(os.path.join(ROOT, *node.module.split(".")) + ".py")))
+                    for alias in node.names:
+                        self.assertIn(alias.name, defined)
+                        self.assertIn(alias.asname or alias.name, used)
+                        self.assertEqual(bound.count(alias.asname or alias.name), 1, alias.name)
+        while edges:
+            leaves = [name for name in edges if not [other for other in edges[name] if other in edges]]
+            self.assertNotEqual(leaves, [], "modules import one another")
+            edges = {name: edges[name] for name in edges if name not in leaves}
+
+    def test_names(self):
+        for path, tree in trees():
+            for name in bound_names(tree):
+                self.assertNotIn(name, dir(builtins))
+                self.assertNotIn(name, BARRED_NAMES)
+                self.assertRegex(name, r"^(_|_?[A-Za-z][A-Za-z0-9_]*|__init__)$")
+            for node in ast.walk(tree):
+                if isinstance(node, ast.Name) and node.id in dir(builtins):
+                    self.assertIn(node.id, BUILTINS)
+                if isinstance(node, ast.Attribute):
+                    self.assertIn(node.attr, METHODS)
+
+    def test_words(self):
+        for path in files():
+            for word in BARRED_WORDS:
+                self.assertIsNone(re.search(rf"\b{word}\b", read(path)), (path, word))
+            self.assertIsNone(re.search(r"\btype\b(?!\()", read(path)), path)
+
+    def test_strings(self):
+        for path, tree in trees():
+            told = docstrings(tree)
+            for node in ast.walk(tree):
+                if isinstance(node, ast.Constant) and isinstance(node.value, str) and node not in told:
+                    self.assertNotIn(chr(37), node.value)
+                    self.assertNotIn("__", node.value)
+            with open(path, "rb") as stream:
+                for token in tokenize.tokenize(stream.readline):
+                    if token.type == tokenize.STRING:
+                        self.assertIsNone(re.search(r"\\[^nt\\\"']", token.string.replace("\\\\", "")), token.string)
+
+
+if __name__ == "__main__":
+    unittest.main()
