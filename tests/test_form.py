@@ -19,6 +19,15 @@ INTERFACE = {
                               "raised(vector, dot)"],
     "partmeet.data.events": ["MOST_NUMBER", "is_op(data)", "is_client_op(data)", "is_event(data)", "dot_of(event)",
                              "past_has(event, dot)"],
+    "partmeet.packing.frames": ["MOST_PAYLOAD", "FRAME_HEAD", "check_of(octets)", "frame(payload)",
+                                "whole_frames(octets)"],
+    "partmeet.disk.disk": ["Disk", "Disk()", "Disk.append(payload)", "Disk.sync()", "Disk.renew(payload)",
+                           "Disk.crash(count)", "Disk.payloads()", "Disk.unsynced()", "Disk.turn()", "Disk.images()",
+                           "Disk.fork()"],
+    "partmeet.base.base": ["Base", "Base()", "Base.fork()", "Base.as_data()", "base_of(data)"],
+    "partmeet.base.answers": ["heads(base, held, key)", "places(base, held, key)", "latest(base, held, key)",
+                              "members(base, held, key)", "counter(base, held, key)", "text(base, held, key)"],
+    "partmeet.base.folding": ["folded(base, held, cut)"],
     "partmeet.packing.lines": ["MOST_DEPTH", "MOST_INTEGER", "pack(data)", "unpack(octets)"],
     "partmeet.meaning.values": ["heads_of(events, key)", "register_of(events, key)", "counter_of(events, key)",
                                 "members_of(events, key)"],
@@ -46,6 +55,12 @@ os quit vars sys""".split()
 
 BARRED_WORDS = """typing typing_extensions enum Enum IntEnum StrEnum Flag IntFlag Generic Protocol ABC ABCMeta
 namedtuple NamedTuple TypedDict TYPE_CHECKING abstractmethod _wall _WallAttr""".split()
+
+NO_ATTRIBUTES = """items keys values pop update append clear extend insert remove reverse setdefault sort args encode
+decode hex fromhex format""".split()
+
+# What the package may import from outside, of all that it might.
+LIBRARY = {"itertools": ["accumulate"]}
 
 BARRED_NODES = (ast.AsyncFunctionDef, ast.AsyncFor, ast.AsyncWith, ast.Await, ast.Import, ast.Div, ast.Global)
 
@@ -85,16 +100,41 @@ def bound_names(tree):
 
 
 def top_names(tree):
-    """The names that a module defines itself, functions with their parameters."""
-    found = {}
+    """The names that a module defines itself."""
+    found = [node.name for node in tree.body if isinstance(node, (ast.FunctionDef, ast.ClassDef))]
+    return found + [node.targets[0].id for node in tree.body if isinstance(node, ast.Assign)]
+
+
+def methods_of(node):
+    """The methods of a class, with their parameters, behind the class's own name; what makes an object likewise."""
+    found = []
+    for method in node.body:
+        if isinstance(method, ast.FunctionDef):
+            parameters = ast.unparse(method.args).removeprefix("self").removeprefix(", ")
+            name = node.name if method.name == "__init__" else f"{node.name}.{method.name}"
+            found.append(f"{name}({parameters})")
+    return found
+
+
+def told_names(tree):
+    """The names that a module defines itself, functions and methods with their parameters."""
+    found = top_names(tree)
     for node in tree.body:
         if isinstance(node, ast.FunctionDef):
-            found[node.name] = f"{node.name}({ast.unparse(node.args)})"
+            found.append(f"{node.name}({ast.unparse(node.args)})")
         if isinstance(node, ast.ClassDef):
-            found[node.name] = node.name
-        if isinstance(node, ast.Assign):
-            found[node.targets[0].id] = node.targets[0].id
+            found += methods_of(node)
     return found
+
+
+def own_methods(tree):
+    return [method.name for node in tree.body if isinstance(node, ast.ClassDef)
+            for method in node.body if isinstance(method, ast.FunctionDef)]
+
+
+def own_attributes(tree):
+    return [node.attr for node in ast.walk(tree)
+            if isinstance(node, ast.Attribute) and isinstance(node.ctx, ast.Store)]
 
 
 def docstrings(tree):
@@ -113,7 +153,7 @@ class Form(unittest.TestCase):
     def test_the_interface(self):
         for name, wanted in INTERFACE.items():
             path = os.path.join(ROOT, *name.split(".")) + ".py"
-            found = list(top_names(ast.parse(read(path))).values())
+            found = told_names(ast.parse(read(path)))
             self.assertEqual([each for each in wanted if each not in found], [], name)
 
     def test_files_and_lines(self):
@@ -157,7 +197,12 @@ class Form(unittest.TestCase):
             bound = bound_names(tree)
             used = [node.id for node in ast.walk(tree) if isinstance(node, ast.Name)]
             for node in tree.body:
-                if isinstance(node, ast.ImportFrom):
+                if isinstance(node, ast.ImportFrom) and node.module in LIBRARY:
+                    for alias in node.names:
+                        self.assertIn(alias.name, LIBRARY[node.module])
+                        self.assertIsNone(alias.asname)
+                        self.assertEqual(bound.count(alias.name), 1, alias.name)
+                elif isinstance(node, ast.ImportFrom):
                     self.assertEqual(node.level, 0)
                     self.assertTrue(node.module.startswith("partmeet."))
                     edges.setdefault(module_name(path), []).append(node.module)
@@ -172,6 +217,7 @@ class Form(unittest.TestCase):
             edges = {name: edges[name] for name in edges if name not in leaves}
 
     def test_names(self):
+        own = [name for path, tree in trees() for name in own_methods(tree) + own_attributes(tree)]
         for path, tree in trees():
             for name in bound_names(tree):
                 self.assertNotIn(name, dir(builtins))
@@ -181,7 +227,13 @@ class Form(unittest.TestCase):
                 if isinstance(node, ast.Name) and node.id in dir(builtins):
                     self.assertIn(node.id, BUILTINS)
                 if isinstance(node, ast.Attribute):
-                    self.assertIn(node.attr, METHODS)
+                    self.assertIn(node.attr, METHODS + own)
+
+    def test_attributes(self):
+        for path, tree in trees():
+            for name in own_attributes(tree):
+                self.assertNotIn(name, NO_ATTRIBUTES)
+                self.assertNotIn(name, own_methods(tree))
 
     def test_words(self):
         for path in files():

@@ -1,5 +1,6 @@
 """Writers for the tests: they write events that are right, and tell one another what they know."""
 
+import itertools
 import random
 
 from partmeet.data.vectors import NO_VECTOR
@@ -86,3 +87,41 @@ def orders_of(events, seed=0, count=4):
 
 def past_of(events, one):
     return [e for e in events if has(one[2], e[:2])]
+
+
+def meeting_events(seed, steps=30, sites=3):
+    """Return a closed list of events of a few writers who write alone for a while, and at times all meet."""
+    chance = random.Random(seed)
+    writers = [Writer(site) for site in range(sites)]
+    for _ in range(steps):
+        writer = chance.choice(writers)
+        writer.write(some_op(writer, chance))
+        if chance.random() < 0.3:
+            writer.hear(chance.choice(writers))
+        if chance.random() < 0.2:
+            meet(writers)
+    meet(writers)
+    return writers[0].known
+
+
+def meet(writers):
+    for writer in writers:
+        for other in writers:
+            writer.hear(other)
+
+
+def covers(vector, other):
+    return all(number >= wanted for number, wanted in zip(vector, other))
+
+
+def cuts_of(events):
+    """Return all cuts, ascending, that leave what goes together: all dots in the past of what is folded are folded,
+    and what is left has all of it in its past."""
+    tops = [max([e[1] for e in events if e[0] == site], default=0) for site in range(8)]
+    found = []
+    for cut in itertools.product(*[range(top + 1) for top in tops]):
+        gone = [e for e in events if has(cut, e[:2])]
+        left = [e for e in events if not has(cut, e[:2])]
+        if all(covers(cut, e[2]) for e in gone) and all(covers(e[2], cut) for e in left):
+            found.append(cut)
+    return found

@@ -5,6 +5,9 @@ from partmeet.data.vectors import is_dot, is_site, is_vector, knows
 
 MOST_NUMBER = 10 ** 9
 
+# The first words of the operations of clients.
+CLIENT_WORDS = ("set", "inc", "add", "remove", "insert", "erase")
+
 
 def is_client_op(data):
     """Return True if data is an operation of clients."""

@@ -5,15 +5,22 @@ from partmeet.data.events import dot_of, events_with, height_of, op_of
 
 def line_of(events, key):
     """Return the dots of all places of the key, erased or not, in the order of the line."""
-    below = places_below(events, key)
-    line = []
+    return row_below(places_below(events, key), None)
+
+
+def row_below(below, after):
+    """Return the dots of all places that hang below one, at whatever depth, in the order of the line.
+
+    `below` is as `places_below` tells it; below None all places of the tree hang.
+    """
+    row = []
     # A text that was typed hangs as deep as it is long, so the tree is walked without recursion.
-    waiting = list(below.get(None, []))
+    waiting = list(below.get(after, []))
     while waiting:
         dot = waiting.pop()
-        line.append(dot)
+        row.append(dot)
         waiting.extend(below.get(dot, []))
-    return line
+    return row
 
 
 def places_below(events, key):
@@ -31,13 +38,23 @@ def rank_of(event):
     return (height_of(event), dot_of(event))
 
 
+def erased_in(events, key):
+    """Return a dict that has the dots of the places of the key that are erased."""
+    return {op_of(event)[2]: True for event in events_with(events, "erase", key)}
+
+
+def signs_in(events, key):
+    """Return a dict: for each place of the key its sign."""
+    return {dot_of(event): op_of(event)[3] for event in events_with(events, "insert", key)}
+
+
 def places_of(events, key):
     """Return the dots of the shown places of the key, in the order of the line."""
-    erased = {op_of(event)[2]: True for event in events_with(events, "erase", key)}
+    erased = erased_in(events, key)
     return [dot for dot in line_of(events, key) if dot not in erased]
 
 
 def text_of(events, key):
     """Return the text of the key."""
-    signs = {dot_of(event): op_of(event)[3] for event in events_with(events, "insert", key)}
+    signs = signs_in(events, key)
     return "".join([signs[dot] for dot in places_of(events, key)])

@@ -1,0 +1,1 @@
+"""Bases: what is left of events that were let go."""

@@ -1,0 +1,1 @@
+"""Disks, of which a crash takes what was not synced."""
