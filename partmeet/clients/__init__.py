@@ -1,0 +1,1 @@
+"""Clients, and what they have seen."""

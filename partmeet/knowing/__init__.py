@@ -1,0 +1,1 @@
+"""What a site knows of the others."""

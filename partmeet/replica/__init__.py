@@ -1,0 +1,1 @@
+"""Sites: what they write, hear, forget and hand."""
