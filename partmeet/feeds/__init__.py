@@ -1,0 +1,1 @@
+"""Feeds: what changes for somebody who looks at some keys."""

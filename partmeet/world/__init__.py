@@ -1,0 +1,1 @@
+"""The world: stations, mail, and what happens to them."""
