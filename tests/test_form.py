@@ -261,11 +261,12 @@ class Form(unittest.TestCase):
         own = [name for path, tree in trees() for name in own_methods(tree) + own_attributes(tree)]
         for path, tree in trees():
             for name in bound_names(tree):
-                self.assertNotIn(name, dir(builtins))
+                # A test of examples leaves the name of the last answer among the builtins.
+                self.assertNotIn(name, [each for each in dir(builtins) if each != "_"])
                 self.assertNotIn(name, BARRED_NAMES)
                 self.assertRegex(name, r"^(_|_?[A-Za-z][A-Za-z0-9_]*|__init__)$")
             for node in ast.walk(tree):
-                if isinstance(node, ast.Name) and node.id in dir(builtins):
+                if isinstance(node, ast.Name) and node.id in dir(builtins) and node.id != "_":
                     self.assertIn(node.id, BUILTINS)
                 if isinstance(node, ast.Attribute):
                     self.assertIn(node.attr, METHODS + own)

@@ -98,7 +98,8 @@ class NoCalls(unittest.TestCase):
         world = some_world()
         for call in ((), ("",), ("Write", 0, 0, OP), ("writes", 0, 0, OP), ("perform", ("sync", 0)), ("stations",),
                      ("_keep", 0), ("_kind_round",), ("__init__", 2, (0,)), ("begin", 1), ("numbers",), ("calm ", 1),
-                     (0,), (None,), (True, 0), (("sync", 0),), (5, "sync", 0), ("answer_at", 0, "text", "k")):
+                     (0,), (None,), (True, 0), (("sync", 0),), (5, "sync", 0), ("answer_at", 0, "text", "k"),
+                     ([],), (["sync"], 0)):
             self.assertNoCall(world, call)
 
     def test_too_few_and_too_many_arguments(self):

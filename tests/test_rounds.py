@@ -170,6 +170,7 @@ class Rounds(WorldTest):
         self.assertEqual(world.say(0, 1), 400)
         for rounds in (201, 202, 10 ** 9):
             self.assertRefused(OutOfRange, world, "calm", rounds)
+        self.assertRaises(OutOfRange, world.calm, -1)
 
     def test_nobody_or_one_alone(self):
         world = world_of(1)

@@ -171,9 +171,10 @@ class Writing(WorldTest):
 
     def test_no_client(self):
         world = unsure()
-        for client in (3, 4, -1, 100):
+        for client in (3, 4, -1, 100, True, False):
             with self.assertRaises(NoClient):
                 world.write(client, 0, OP)
+        self.assertRaises(NoSite, world.write, 0, False, OP)
         # Ahead of all else.
         self.assertRefused(NoClient, world, "write", 3, 9, OP)
         self.assertRefused(NoClient, world, "write", 3, 0, ("ack", (0,)))

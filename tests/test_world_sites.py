@@ -150,6 +150,7 @@ class Crashing(WorldTest):
         world = mixed()
         for count in (1000001, 10 ** 9):
             self.assertRefused(OutOfRange, world, "crash", 0, count)
+        self.assertRaises(OutOfRange, world.crash, 0, -1)
         self.assertIsNone(world.crash(0, 1000000))
         self.assertRefused(SiteDown, world, "crash", 0, 1000001)
 

@@ -39,10 +39,8 @@ def moved(edits, cursor):
     """Return the position of a cursor in the new text."""
     shift = 0
     for at, count, signs in edits:
-        if at >= cursor:
-            return cursor + shift
         if cursor <= at + count:
-            # Its sign is gone. The one ahead of the edit stays, or the text begins there.
-            return at + shift
+            # Within the edit its sign is gone. The one ahead of the edit stays, or the text begins there.
+            return min(cursor, at) + shift
         shift += len(signs) - count
     return cursor + shift
